@@ -1,0 +1,1 @@
+"""Tollround: neighbours at a round table who exchange seats for a coin."""
