@@ -48,6 +48,82 @@ def possible_row(state, length, seed):
     return row
 
 
+def all_purses(many, coins):
+    """All ways to have so many coins in so many purses, ascending."""
+    if many == 1:
+        return [(coins,)]
+    return [(first, *more) for first in range(coins + 1)
+            for more in all_purses(many - 1, coins - first)]
+
+
+def all_states(many, coins):
+    """All STATEs of so many people with so many coins, ascending."""
+    return [(seats, purses) for seats in itertools.permutations(range(many))
+            for purses in all_purses(many, coins)]
+
+
+def all_lots(many, coins):
+    """The lots of so many people with so many coins, each an ascending list.
+
+    They are found by exchanges alone, and told apart by nothing else.
+    """
+    found, seen = [], set()
+    for state in all_states(many, coins):
+        if state not in seen:
+            lot = sorted(distances_from(state))
+            seen.update(lot)
+            found.append(lot)
+    return found
+
+
+def distances_from(state):
+    """How many exchanges each STATE is away to which this one leads, by a search."""
+    found = {state: 0}
+    queue = [state]
+    for present in queue:
+        for seat, person in enumerate(people_at(present)):
+            if present[1][person]:
+                behind = model_exchange(present, seat)
+                if behind not in found:
+                    found[behind] = found[present] + 1
+                    queue.append(behind)
+    return found
+
+
+def model_residues(state):
+    """Seat plus coins of everybody, modulo their number."""
+    return tuple((seat + coins) % len(state[0]) for seat, coins in zip(*state))
+
+
+def mate(state, seed):
+    """Another STATE with the same residues and total, which must be some thousand."""
+    chance = random.Random(seed)
+    many, marks = len(state[0]), model_residues(state)
+    seats = list(range(many))
+    chance.shuffle(seats)
+    purses = [(mark - seat) % many for mark, seat in zip(marks, seats)]
+    rounds = (sum(state[1]) - sum(purses)) // many
+    order = list(range(many))
+    chance.shuffle(order)
+    for person in order[:-1]:
+        part = chance.randint(0, rounds)
+        purses[person] += part * many
+        rounds -= part
+    purses[order[-1]] += rounds * many
+    return (tuple(seats), tuple(purses))
+
+
+def full_states(seed=1, most=10 ** 40):
+    """STATEs of two to twelve people with very full purses."""
+    chance = random.Random(seed)
+    found = []
+    for many in range(2, 13):
+        seats = list(range(many))
+        chance.shuffle(seats)
+        found.append((tuple(seats), tuple(chance.randint(most // 2, most) for _ in seats)))
+    return found
+
+
 def people_at(state):
     """The people in the order of their seats, found by looking for each seat."""
     return [state[0].index(seat) for seat in range(len(state[0]))]
@@ -71,11 +147,23 @@ def model_exchange(state, seat):
     return (tuple(seats), tuple(purses))
 
 
+def model_run(state, row):
+    """The STATE after a ROW of possible exchanges."""
+    for seat in row:
+        state = model_exchange(state, seat)
+    return state
+
+
 def kinds(value):
     """The value with the kind of each of its parts, lists and tuples told apart."""
     if isinstance(value, (list, tuple)):
         return (type(value).__name__, [kinds(item) for item in value])
     return (type(value).__name__, value)
+
+
+# Pairs of numbers of people and of coins whose STATEs can all be gone through.
+SMALL = [(2, 0), (2, 1), (2, 2), (2, 5), (2, 8), (3, 0), (3, 1), (3, 2), (3, 3), (3, 5), (4, 0),
+         (4, 1), (4, 2), (4, 3)]
 
 
 class Checks:

@@ -25,6 +25,16 @@ INTERFACE = {
         "exchanges": ["state"], "exchanged": ["state", "seat"], "run": ["state", "row"],
         "states_along": ["state", "row"],
     },
+    "leading": {
+        "leads": ["one", "other"], "bar": ["one", "other"], "shifts": ["one", "other"],
+        "crossings": ["one", "other"], "distance": ["one", "other"], "nearer": ["one", "other"],
+        "plan": ["one", "other"], "is_way": ["one", "other", "value"],
+    },
+    "counting": {
+        "lot_many": ["state"], "many_with": ["residues", "total"], "state_at": ["state", "number"],
+        "state_number": ["state", "other"], "states_many": ["size", "total"],
+        "lots_many": ["size", "total"],
+    },
 }
 
 
@@ -143,6 +153,32 @@ class FormTest(unittest.TestCase):
     def test_no_statement_outside_the_language(self):
         barred = (ast.Global, ast.AsyncFunctionDef, ast.AsyncFor, ast.AsyncWith)
         self.assertEqual(nodes(barred), [])
+
+    def test_names_of_the_library_are_only_called_in_functions(self):
+        for name, tree in trees().items():
+            words = {part.name for node in tree.body if isinstance(node, ast.ImportFrom)
+                     for part in node.names if node.module in LIBRARY}
+            calls = [node for part in tree.body
+                     if isinstance(part, (ast.FunctionDef, ast.ClassDef))
+                     for node in ast.walk(part) if isinstance(node, ast.Call)]
+            called = [node.func for node in calls
+                      if isinstance(node.func, ast.Name) and node.func.id in words]
+            for node in ast.walk(tree):
+                if isinstance(node, ast.Name) and node.id in words:
+                    self.assertIn(node, called, (name, node.id))
+
+    def test_exponents_are_plain(self):
+        for name, node in nodes(ast.BinOp):
+            if isinstance(node.op, ast.Pow):
+                self.assertIsInstance(node.right, ast.Constant, name)
+                self.assertIn(node.right.value, range(65), name)
+
+    def test_numbers_and_strings_are_not_compared_by_is(self):
+        for name, node in nodes(ast.Compare):
+            for sign, right in zip(node.ops, node.comparators):
+                if isinstance(sign, (ast.Is, ast.IsNot)):
+                    self.assertIsInstance(right, ast.Constant, name)
+                    self.assertIn(repr(right.value), ("None", "True", "False"), name)
 
 
 if __name__ == "__main__":
