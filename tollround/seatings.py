@@ -75,7 +75,7 @@ def with_one_more(counts, room):
     these, nobody begins to wrap; on any other seat it is one person more.
     """
     # As long as seats are still missing, numbers may be below 0, and only this is
-    # sure: for any z, the sum of found[w] * comb(z - w + r, r), r being the number
+    # sure: for any z from 0, the sum of found[w] * comb(z - w + r, r), r being the number
     # of people, is the product of z + room over all of them. That settles the
     # numbers when the last person sits down, too.
     found = [0] * (len(counts) + 1)
