@@ -3,11 +3,15 @@
 import copy
 import itertools
 import random
+import time
 
 PAIR = ((0, 1), (1, 0))
 TRIO = ((0, 1, 2), (1, 0, 0))
 RICH = ((0, 1, 2), (2, 0, 1))
 MOST_COINS = 10 ** 42
+# Of the time of the processor. Each call takes far less; to count one by one
+# would take longer than anybody waits.
+SECONDS = 1
 
 
 def shapes(value):
@@ -154,6 +158,12 @@ def model_run(state, row):
     return state
 
 
+def model_meets(state, wish):
+    """Whether nobody sits or has coins otherwise than wished."""
+    return not [x for x, (seat, coins) in enumerate(wish)
+                if seat not in (None, state[0][x]) or coins not in (None, state[1][x])]
+
+
 def kinds(value):
     """The value with the kind of each of its parts, lists and tuples told apart."""
     if isinstance(value, (list, tuple)):
@@ -191,3 +201,15 @@ class Checks:
             self.assert_exact(function(*shaped), wanted)
             self.assert_exact(function(**dict(zip(names, shaped))), wanted)
             self.assert_exact(shaped, before)
+
+
+class Timed:
+    """A check of times to mix into a unittest.TestCase."""
+
+    def timed(self, function, *args, **more):
+        """What the function returns, which must not take long."""
+        start = time.process_time()
+        try:
+            return function(*args, **more)
+        finally:
+            self.assertLess(time.process_time() - start, SECONDS, function.__name__)

@@ -35,6 +35,18 @@ INTERFACE = {
         "state_number": ["state", "other"], "states_many": ["size", "total"],
         "lots_many": ["size", "total"],
     },
+    "chances": {
+        "seat_chances": ["state", "person"], "mean_purse": ["state", "person"],
+        "range_of": ["state", "person"],
+    },
+    "wishes": {
+        "meets": ["state", "wish"], "wish_many": ["state", "wish"],
+        "wish_at": ["state", "wish", "number"], "nearest": ["state", "wish"],
+    },
+    "passes": {
+        "passes_many": ["state", "row"], "after_passes": ["state", "row", "many"],
+        "stopper": ["state", "row"],
+    },
 }
 
 

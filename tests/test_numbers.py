@@ -195,6 +195,10 @@ class SpreadsTest(Checks, unittest.TestCase):
     def test_rounds_below_0(self):
         self.assert_exact([spreads_many(-1, 3), spreads_many(-5, 1)], [0, 0])
 
+    def test_without_purses(self):
+        self.assert_exact([spreads_many(rounds, 0) for rounds in range(-2, 4)], [0, 0, 1, 0, 0, 0])
+        self.assert_exact([spread_at(0, 0, 0), spread_number([])], [[], 0])
+
 
 if __name__ == "__main__":
     unittest.main()

@@ -1,8 +1,8 @@
 """Nothing goes through exchanges, coins, states or residues one by one."""
 
-import time
 import unittest
 
+from tollround.chances import mean_purse, range_of, seat_chances
 from tollround.counting import (
     lot_many, lots_many, many_with, state_at, state_number, states_many,
 )
@@ -10,24 +10,17 @@ from tollround.errors import TooMany
 from tollround.leading import (
     bar, crossings, distance, is_way, leads, nearer, plan, shifts,
 )
-from tests.samples import MOST_COINS, full_states, mate, model_residues
+from tollround.passes import after_passes, passes_many, stopper
+from tollround.wishes import meets, nearest, wish_at, wish_many
+from tests.samples import MOST_COINS, Timed, full_states, mate, model_residues
 
-# Of the time of the processor. Each call takes far less; to count one by one
-# would take longer than anybody waits.
-SECONDS = 1
+FREE = (None, None)
 
 
-class TimeTest(unittest.TestCase):
+class TimeTest(Timed, unittest.TestCase):
     def setUp(self):
         self.one = full_states(most=MOST_COINS)[-1]
         self.other = mate(self.one, 3)
-
-    def timed(self, function, *args):
-        start = time.process_time()
-        try:
-            return function(*args)
-        finally:
-            self.assertLess(time.process_time() - start, SECONDS, function.__name__)
 
     def test_twelve_people_who_are_far_away(self):
         self.assertEqual(len(self.one[0]), 12)
@@ -60,6 +53,58 @@ class TimeTest(unittest.TestCase):
             self.assertGreater(self.timed(states_many, 12, total), 0)
             self.assertGreater(self.timed(lots_many, 12, total), 0)
             self.assertGreater(self.timed(lots_many, 16, total), 0)
+
+
+class WishesAndPassesTest(Timed, unittest.TestCase):
+    def setUp(self):
+        self.state = full_states(most=MOST_COINS)[-1]
+        self.other = mate(self.state, 3)
+        self.assertEqual(len(self.state[0]), 12)
+
+    def test_chances(self):
+        for person in range(12):
+            self.assertEqual(len(self.timed(seat_chances, self.state, person)), 12)
+            self.assertGreater(self.timed(mean_purse, self.state, person)[0], 10 ** 40)
+            self.assertGreater(self.timed(range_of, self.state, person)[1], 10 ** 42)
+
+    def test_wishes(self):
+        for wish in [(FREE,) * 12, ((3, None),) + (FREE,) * 11,
+                     (FREE,) * 11 + ((None, self.other[1][11]),)]:
+            many = self.timed(wish_many, self.state, wish)
+            self.assertGreater(many, 10 ** 350)
+            for number in (0, many // 7, many - 1):
+                found = self.timed(wish_at, self.state, wish, number)
+                self.assertTrue(self.timed(meets, found, wish))
+
+    def test_the_nearest_of_one_state(self):
+        wish = tuple((None, coins) for coins in self.other[1])
+        self.assertEqual(self.timed(nearest, self.state, wish), self.other)
+
+    def test_the_nearest_of_a_few_hundred_states(self):
+        # Two people share few coins, and all others have the purses of the other STATE.
+        purses = list(self.other[1])
+        for person in (0, 7):
+            left = purses[person] % 12 + 12 * 70
+            purses[3] += purses[person] - left
+            purses[person] = left
+        wish = [(None, coins) for coins in purses]
+        wish[0] = wish[7] = FREE
+        many = self.timed(wish_many, self.state, wish)
+        self.assertTrue(200 < many <= 300)
+        found = self.timed(nearest, self.state, wish)
+        self.assertTrue(self.timed(meets, found, wish))
+
+    def test_the_nearest_of_a_whole_lot_of_twelve_people(self):
+        state = (tuple(range(12)), (6, 0, 0, 2, 0, 0, 0, 1, 0, 0, 0, 0))
+        self.assertEqual(self.timed(wish_many, state, (FREE,) * 12), 288)
+        self.assertEqual(self.timed(nearest, state, (FREE,) * 12), state)
+
+    def test_passes(self):
+        state = (self.state[0], (MOST_COINS,) + self.state[1][1:])
+        for row in ([0, 1, 2] * 13, [11, 5, 3, 3, 2, 0, 7] * 5, list(range(12)) * 3, [4] * 40, []):
+            many = self.timed(passes_many, state, row)
+            self.timed(after_passes, state, row, 10 ** 60 if many is None else many)
+            self.assertEqual(self.timed(stopper, state, row) is None, many is None)
 
 
 if __name__ == "__main__":

@@ -12,6 +12,9 @@ def spreads_many(rounds, people):
     """Return the number of spreads, 0 if the rounds are below 0."""
     if rounds < 0:
         return 0
+    if people == 0:
+        # Without a purse only no rounds can be shared out.
+        return 1 if rounds == 0 else 0
     return comb(rounds + people - 1, people - 1)
 
 
