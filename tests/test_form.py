@@ -47,6 +47,22 @@ INTERFACE = {
         "passes_many": ["state", "row"], "after_passes": ["state", "row", "many"],
         "stopper": ["state", "row"],
     },
+    "small": {
+        "all_states": ["state"], "spheres": ["state"], "farthest": ["state"], "width": ["state"],
+        "ways_many": ["one", "other"],
+    },
+    "party": {"Party": ["state"]},
+    "texts": {
+        "state_text": ["state"], "row_text": ["row"], "wish_text": ["wish"], "state_in": ["text"],
+        "row_in": ["text"], "wish_in": ["text"],
+    },
+    "desk": {"answers": ["text"]},
+}
+METHODS = {
+    "exchange": ["seat"], "run": ["row"], "again": ["row", "many"], "go": ["goal"],
+    "give": ["person", "coins"], "take": ["person", "coins"], "come": ["coins"],
+    "leave": ["person"], "undo": [], "do": ["deeds", "whole"], "state": [], "lot": [],
+    "exchanges": [], "deeds": [], "as_of": ["many"], "twin": [], "log": [],
 }
 
 
@@ -103,6 +119,20 @@ class InterfaceTest(unittest.TestCase):
                 for part in found:
                     self.assertIs(part.kind, part.POSITIONAL_OR_KEYWORD, word)
                     self.assertIs(part.default, part.empty, word)
+
+
+    def test_the_methods_of_a_party_stand_in_the_class_itself(self):
+        module = importlib.import_module("tollround.party")
+        found = vars(module.Party)
+        for word in ("__init__", "__eq__", "__len__", "__repr__"):
+            self.assertIn(word, found)
+        for word, wanted in METHODS.items():
+            parts = list(inspect.signature(found[word]).parameters.values())[1:]
+            self.assertEqual([part.name for part in parts], wanted, word)
+            for part in parts:
+                whole = part.name == "whole"
+                self.assertIs(part.kind, part.KEYWORD_ONLY if whole else part.POSITIONAL_OR_KEYWORD)
+                self.assertIs(part.default, True if whole else part.empty)
 
 
 class FormTest(unittest.TestCase):

@@ -6,11 +6,15 @@ from tollround.chances import mean_purse, range_of, seat_chances
 from tollround.counting import (
     lot_many, lots_many, many_with, state_at, state_number, states_many,
 )
+from tollround.desk import answers
 from tollround.errors import TooMany
 from tollround.leading import (
     bar, crossings, distance, is_way, leads, nearer, plan, shifts,
 )
+from tollround.party import Party
 from tollround.passes import after_passes, passes_many, stopper
+from tollround.small import all_states, farthest, spheres, ways_many, width
+from tollround.texts import state_text
 from tollround.wishes import meets, nearest, wish_at, wish_many
 from tests.samples import MOST_COINS, Timed, full_states, mate, model_residues
 
@@ -105,6 +109,48 @@ class WishesAndPassesTest(Timed, unittest.TestCase):
             many = self.timed(passes_many, state, row)
             self.timed(after_passes, state, row, 10 ** 60 if many is None else many)
             self.assertEqual(self.timed(stopper, state, row) is None, many is None)
+
+
+class SmallLotsTest(Timed, unittest.TestCase):
+    def test_lots_of_about_300_states(self):
+        for state in [((0, 1), (0, 299)), (tuple(range(12)), (6, 0, 0, 2, 0, 0, 0, 1, 0, 0, 0, 0)),
+                      (tuple(range(40)), (6, 0, 0, 2, 0, 0, 0, 1) + (0,) * 32)]:
+            found = self.timed(all_states, state)
+            self.assertTrue(280 < len(found) <= 300)
+            self.assertEqual(sum(self.timed(spheres, state)), len(found))
+            self.assertLessEqual(self.timed(farthest, state), self.timed(width, state))
+            self.assertGreater(self.timed(ways_many, found[0], found[-1]), 0)
+
+    def test_whole_great_lots(self):
+        state = full_states(most=MOST_COINS)[-1]
+        for function in (all_states, spheres, farthest, width):
+            with self.assertRaises(TooMany):
+                self.timed(function, state)
+
+
+class PartyTest(Timed, unittest.TestCase):
+    def test_sixty_deeds_of_twelve_people(self):
+        state = full_states(most=MOST_COINS)[-1]
+        other, party = mate(state, 3), Party(state)
+        for _ in range(20):
+            self.timed(party.go, other)
+            self.timed(party.again, [0, 0] * 20, 10 ** 60)
+            self.timed(party.do, [("give", 0, 10 ** 42), ("take", 0, 10 ** 42), ("go", state)])
+        self.assertEqual(self.timed(party.twin).deeds(), 100)
+        self.assertEqual(self.timed(party.as_of, 1).state(), other)
+        self.assertGreater(self.timed(party.lot), 10 ** 400)
+
+    def test_a_desk_with_sixty_lines(self):
+        state = full_states(most=MOST_COINS)[-1]
+        lines = [state_text(state), "number", "lot", f"again {10 ** 49} 0 0", "passes 1 1 2 2",
+                 "go " + state_text(mate(state, 3)), "far " + state_text(state)]
+        wish = "wish 3:? " + " ".join(["?:?"] * 11)
+        self.assertEqual(len(self.timed(answers, "\n".join(lines + [wish] * 53))), 59)
+
+    def test_a_desk_with_more_people(self):
+        line = " ".join([f"{seat}:9" for seat in range(40)])
+        text = "\n".join([line] + ["number", "lot", "at 0", "run 1 2 3"] * 3)
+        self.assertEqual(len(self.timed(answers, text)), 12)
 
 
 if __name__ == "__main__":
